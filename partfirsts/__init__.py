@@ -1,0 +1,1 @@
+"""The first rows of a table that lies in parts."""

@@ -1,0 +1,62 @@
+import inspect
+import unittest
+
+from partfirsts import tables, words
+
+FUNCTIONS = {
+    words: {"is_name": "(value)", "is_number": "(value, least, most)"},
+}
+METHODS = {
+    tables.Table: {
+        "__init__": "(self, parts, rows)",
+        "dealt": "(parts, places)",
+        "alone": "(parts, places, *, part=0)",
+        "rows": "(self)",
+        "places": "(self)",
+        "part": "(self, index)",
+        "place_of": "(self, number)",
+        "parts_of": "(self, number)",
+        "moved": "(self, number, *parts)",
+        "with_row": "(self, row)",
+        "without": "(self, *numbers)",
+    },
+}
+STATIC = {tables.Table: ["dealt", "alone"]}
+PROPERTIES = {tables.Table: ["parts", "plain"]}
+OPERATORS = {tables.Table: ["__or__", "__contains__", "__len__", "__bool__", "__eq__", "__repr__"]}
+VALUES = {tables.Table: {"MOST_PARTS": 4, "MOST_ROWS": 300}}
+HOMES = {"partfirsts.tables": [tables.Table]}
+
+
+class Interface(unittest.TestCase):
+    def test_functions_stand_in_their_files(self):
+        for module, functions in FUNCTIONS.items():
+            for name, signature in functions.items():
+                function = getattr(module, name)
+                self.assertEqual(function.__module__, module.__name__)
+                self.assertEqual(str(inspect.signature(function)), signature)
+
+    def test_classes_stand_in_their_files(self):
+        for home, kinds in HOMES.items():
+            for kind in kinds:
+                self.assertEqual(kind.__module__, home)
+
+    def test_methods_stand_in_their_classes(self):
+        for kind, methods in METHODS.items():
+            for name, signature in methods.items():
+                self.assertIn(name, vars(kind))
+                self.assertEqual(str(inspect.signature(getattr(kind, name))), signature)
+                self.assertEqual(isinstance(vars(kind)[name], staticmethod), name in STATIC[kind])
+
+    def test_operators_stand_in_their_classes(self):
+        for kind, names in OPERATORS.items():
+            for name in names:
+                self.assertIn(name, vars(kind))
+
+    def test_properties_and_class_values(self):
+        for kind, names in PROPERTIES.items():
+            for name in names:
+                self.assertIsInstance(vars(kind)[name], property)
+        for kind, values in VALUES.items():
+            for name, value in values.items():
+                self.assertEqual(vars(kind)[name], value)
