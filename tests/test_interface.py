@@ -1,10 +1,18 @@
 import inspect
 import unittest
 
-from partfirsts import tables, words
+from partfirsts import faults, readers, runs, standings, tables, words
 
 FUNCTIONS = {
     words: {"is_name": "(value)", "is_number": "(value, least, most)"},
+    runs: {"judge": "(reader, table, *, moves=())"},
+    standings: {
+        "first_standing": "(reader)",
+        "steps": "(reader, standing)",
+        "standings": "(reader)",
+        "kinds_at": "(reader, standing)",
+    },
+    faults: {"possible": "(reader, kind)", "fault_table": "(reader, kind)"},
 }
 METHODS = {
     tables.Table: {
@@ -20,15 +28,62 @@ METHODS = {
         "with_row": "(self, row)",
         "without": "(self, *numbers)",
     },
+    readers.Reader: {
+        "__init__": "(self, mark, states, *, inner='up', order='number')",
+        "exact": "(parts, size)",
+        "states": "(self)",
+        "with_asks": "(self, *asks)",
+    },
+    runs.Run: {
+        "__init__": "(self, reader, table)",
+        "open_rows": "(self, part)",
+        "sent": "(self, part)",
+        "at_hand": "(self)",
+        "pages": "(self)",
+        "told": "(self)",
+        "page": "(self)",
+        "__call__": "(self)",
+        "play": "(self, *, most=100)",
+        "move": "(self, number, *parts)",
+        "back": "(self)",
+        "again": "(self)",
+        "history": "(self)",
+        "twin": "(self)",
+    },
 }
-STATIC = {tables.Table: ["dealt", "alone"]}
-PROPERTIES = {tables.Table: ["parts", "plain"]}
-OPERATORS = {tables.Table: ["__or__", "__contains__", "__len__", "__bool__", "__eq__", "__repr__"]}
-VALUES = {tables.Table: {"MOST_PARTS": 4, "MOST_ROWS": 300}}
-HOMES = {"partfirsts.tables": [tables.Table]}
+STATIC = {tables.Table: ["dealt", "alone"], readers.Reader: ["exact"], runs.Run: []}
+PROPERTIES = {
+    tables.Table: ["parts", "plain"],
+    readers.Reader: ["mark", "inner", "order", "parts"],
+    runs.Run: ["reader", "table", "state", "fault", "ended"],
+}
+OPERATORS = {
+    tables.Table: ["__or__", "__contains__", "__len__", "__bool__", "__eq__", "__repr__"],
+    readers.Reader: ["__len__", "__eq__", "__repr__"],
+    runs.Run: ["__call__", "__len__", "__bool__", "__repr__"],
+}
+VALUES = {
+    tables.Table: {"MOST_PARTS": 4, "MOST_ROWS": 300},
+    readers.Reader: {
+        "MARKS": ("key", "from", "row", "each", "count", "rest"),
+        "INNER": ("up", "down"),
+        "ORDERS": ("number", "back", "part"),
+        "MOST_STATES": 6,
+        "MOST_ASK": 9,
+    },
+}
+HOMES = {
+    "partfirsts.tables": [tables.Table],
+    "partfirsts.readers": [readers.Reader],
+    "partfirsts.runs": [runs.Run],
+}
 
 
 class Interface(unittest.TestCase):
+    def test_constants(self):
+        self.assertEqual(faults.KINDS, ("late", "left", "lost", "twice"))
+        self.assertTrue(inspect.isgeneratorfunction(standings.standings))
+
     def test_functions_stand_in_their_files(self):
         for module, functions in FUNCTIONS.items():
             for name, signature in functions.items():

@@ -99,10 +99,11 @@ class Rules(unittest.TestCase):
     def test_builtins(self):
         for path, tree in trees():
             for node in ast.walk(tree):
-                if isinstance(node, ast.Name) and hasattr(builtins, node.id):
+                # The examples of the README give Python's builtins a `_`.
+                if isinstance(node, ast.Name) and hasattr(builtins, node.id) and node.id != "_":
                     self.assertIn(node.id, BUILTINS, path)
             for name in bound_names(tree):
-                self.assertFalse(hasattr(builtins, name), (path, name))
+                self.assertFalse(hasattr(builtins, name) and name != "_", (path, name))
 
     def test_syntax(self):
         for path, tree in trees():
@@ -113,6 +114,11 @@ class Rules(unittest.TestCase):
                     self.assertFalse(isinstance(node.value, str) and "%" in node.value, path)
                 if isinstance(node, ast.Compare):
                     self.check_is(node, path)
+
+    def test_a_bare_underscore_is_never_read(self):
+        for path, tree in trees():
+            names = [node for node in ast.walk(tree) if isinstance(node, ast.Name) and node.id == "_"]
+            self.assertTrue(all(isinstance(node.ctx, ast.Store) for node in names), path)
 
     def check_is(self, node, path):
         for operator, other in zip(node.ops, node.comparators):
