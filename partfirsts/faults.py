@@ -18,6 +18,12 @@ def possible(reader, kind):
     return len(_way_to(reader, kind)) > 0
 
 
+def possible_kinds(reader):
+    """The kinds of faults that can be the first one of a run on a plain table, in the order of KINDS."""
+    found = {kind: True for standing in origins(reader) for kind in kinds_at(reader, standing)}
+    return [kind for kind in KINDS if kind in found]
+
+
 def fault_table(reader, kind):
     """A plain table on which the run of the reader has this fault, or None."""
     _check_kind(kind)

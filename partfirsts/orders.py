@@ -8,6 +8,11 @@ def inner_sorted(places, inner):
     return sorted(places)
 
 
+def are_alike(inner, order):
+    """Whether rows are told in the order in which a part sends them, whatever parts they lie in."""
+    return (inner, order) in (("up", "number"), ("down", "back"))
+
+
 def _rank(place, sender, order):
     key, number = place
     if order == "back":

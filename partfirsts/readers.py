@@ -1,7 +1,7 @@
 """Readers: how the rows of a table that lies in parts are read, page by page."""
 
-from partfirsts.errors import InvalidAsk, InvalidMark, InvalidNumber, InvalidOrder, InvalidPart, InvalidState
-from partfirsts.tables import Table
+from partfirsts.errors import InvalidAsk, InvalidMark, InvalidNumber, InvalidOrder, InvalidState
+from partfirsts.tables import Table, check_parts
 from partfirsts.words import is_number
 
 _MOST_SIZE = 9
@@ -23,7 +23,8 @@ def _is_following(value, many):
     return value is None or is_number(value, 0, many - 1)
 
 
-def _is_state(value, many):
+def is_state(value, many):
+    """Whether any value is a state of a reader with so many states."""
     if not isinstance(value, tuple) or len(value) != 4:
         return False
     size, asks, full, thin = value
@@ -35,13 +36,27 @@ def _is_state(value, many):
     )
 
 
+def check_size(size):
+    """InvalidNumber for any value but a size of a page."""
+    if not is_number(size, 1, _MOST_SIZE):
+        raise InvalidNumber(size)
+
+
+def check_orders(inner, order):
+    """InvalidOrder for any values but an inner and a middle order."""
+    if inner not in Reader.INNER:
+        raise InvalidOrder(inner)
+    if order not in Reader.ORDERS:
+        raise InvalidOrder(order)
+
+
 def _check_states(states):
     if len(states) == 0:
         raise InvalidState(0)
     for at, state in enumerate(states):
         if (
             at == Reader.MOST_STATES
-            or not _is_state(state, len(states))
+            or not is_state(state, len(states))
             or len(state[1]) != len(states[0][1])
         ):
             raise InvalidState(at)
@@ -59,10 +74,7 @@ class Reader:
     def __init__(self, mark, states, *, inner="up", order="number"):
         if mark not in Reader.MARKS:
             raise InvalidMark(mark)
-        if inner not in Reader.INNER:
-            raise InvalidOrder(inner)
-        if order not in Reader.ORDERS:
-            raise InvalidOrder(order)
+        check_orders(inner, order)
         _check_states(states)
         self._mark = mark
         self._inner = inner
@@ -72,10 +84,8 @@ class Reader:
     @staticmethod
     def exact(parts, size):
         """The reader by rows that asks each part for a whole page, and so makes no fault."""
-        if not is_number(parts, 1, Table.MOST_PARTS):
-            raise InvalidPart(parts)
-        if not is_number(size, 1, _MOST_SIZE):
-            raise InvalidNumber(size)
+        check_parts(parts)
+        check_size(size)
         return Reader("row", [(size, (size,) * parts, 0, None)])
 
     @property

@@ -12,13 +12,18 @@ def _are_live(value, parts):
     )
 
 
+def is_standing(reader, value):
+    """Whether any value is a standing of the reader, be it that steps lead to it or not."""
+    return (
+        isinstance(value, tuple)
+        and len(value) == 2
+        and is_number(value[0], 0, len(reader) - 1)
+        and _are_live(value[1], reader.parts)
+    )
+
+
 def _check_standing(reader, value):
-    if (
-        not isinstance(value, tuple)
-        or len(value) != 2
-        or not is_number(value[0], 0, len(reader) - 1)
-        or not _are_live(value[1], reader.parts)
-    ):
+    if not is_standing(reader, value):
         raise InvalidStanding(value)
 
 

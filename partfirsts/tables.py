@@ -7,12 +7,14 @@ _MOST_KEY = 1000000000
 _MOST_NUMBER = 1000000000
 
 
-def _check_parts(parts):
+def check_parts(parts):
+    """InvalidPart for any value but a number of parts that a table can have."""
     if not is_number(parts, 1, Table.MOST_PARTS):
         raise InvalidPart(parts)
 
 
-def _check_part(part, parts):
+def check_part(part, parts):
+    """InvalidPart for any value but a part of a table with so many parts."""
     if not is_number(part, 0, parts - 1):
         raise InvalidPart(part)
 
@@ -28,7 +30,8 @@ def _are_parts(value, parts):
     return True
 
 
-def _is_row(value, parts):
+def is_row(value, parts):
+    """Whether any value is a row of a table with so many parts."""
     if not isinstance(value, tuple) or len(value) != 3:
         return False
     key, number, lies = value
@@ -62,9 +65,9 @@ class Table:
     MOST_ROWS = 300
 
     def __init__(self, parts, rows):
-        _check_parts(parts)
+        check_parts(parts)
         for at, row in enumerate(rows):
-            if not _is_row(row, parts):
+            if not is_row(row, parts):
                 raise InvalidRow(at)
         by_number = _rows_by_number(rows)
         if len(rows) > Table.MOST_ROWS:
@@ -77,14 +80,14 @@ class Table:
     @staticmethod
     def dealt(parts, places):
         """The table in which the place with the index i lies in the part i modulo parts."""
-        _check_parts(parts)
+        check_parts(parts)
         return Table(parts, [_row_in(place, at % parts) for at, place in enumerate(places)])
 
     @staticmethod
     def alone(parts, places, *, part=0):
         """The table in which all places lie in one part."""
-        _check_parts(parts)
-        _check_part(part, parts)
+        check_parts(parts)
+        check_part(part, parts)
         return Table(parts, [_row_in(place, part) for place in places])
 
     @property
@@ -107,7 +110,7 @@ class Table:
 
     def part(self, index):
         """The places of the rows that lie in this part, ascending."""
-        _check_part(index, self._parts)
+        check_part(index, self._parts)
         return [(row[0], row[1]) for row in self._rows if index in row[2]]
 
     def place_of(self, number):
@@ -125,7 +128,7 @@ class Table:
         if len(parts) == 0:
             raise InvalidPart(None)
         for at, part in enumerate(parts):
-            _check_part(part, self._parts)
+            check_part(part, self._parts)
             if part in parts[:at]:
                 raise InvalidPart(part)
         others = [other for other in self._rows if other[1] != row[1]]
@@ -133,7 +136,7 @@ class Table:
 
     def with_row(self, row):
         """The table with one more row."""
-        if not _is_row(row, self._parts):
+        if not is_row(row, self._parts):
             raise InvalidRow(0)
         return Table(self._parts, self._rows + [row])
 

@@ -10,6 +10,11 @@ def is_name(value):
     )
 
 
+def is_whole(value):
+    """Whether the value is an integer, no boolean."""
+    return isinstance(value, int) and not isinstance(value, bool)
+
+
 def is_number(value, least, most):
     """Whether the value is an integer, no boolean, from least to most."""
-    return isinstance(value, int) and not isinstance(value, bool) and least <= value <= most
+    return is_whole(value) and least <= value <= most

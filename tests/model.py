@@ -126,6 +126,27 @@ def some_states(rng, parts, most=4):
     ]
 
 
+def whole_states(rng, parts):
+    """States that ask each part for a page or more, and that go on behind full pages."""
+    many = rng.choice([1, 1, 2, 3])
+    states = []
+    for _ in range(many):
+        size = rng.choice([1, 1, 2, 3])
+        more = rng.choice([0, 0, 2])
+        asks = tuple(rng.randint(size, size + more) for _ in range(parts))
+        states.append((size, asks, rng.randrange(many), rng.choice([None, *range(many)])))
+    return states
+
+
+def whole_readers(seed, rounds):
+    """Readers of all marks and orders, many of which are right."""
+    rng = random.Random(seed)
+    for at in range(rounds):
+        states = whole_states(rng, at % 4 + 1)
+        for mark, inner, order in WAYS:
+            yield Reader(mark, states, inner=inner, order=order)
+
+
 def some_table(rng, parts, *, plain=False, most=9):
     """A table of few rows with ties of keys."""
     numbers = rng.sample(range(20), rng.randint(0, most))

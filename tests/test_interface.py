@@ -1,7 +1,7 @@
 import inspect
 import unittest
 
-from partfirsts import faults, readers, runs, standings, tables, words
+from partfirsts import asking, faults, hands, readers, runs, standings, tables, verdicts, windows, words
 
 FUNCTIONS = {
     words: {"is_name": "(value)", "is_number": "(value, least, most)"},
@@ -13,6 +13,12 @@ FUNCTIONS = {
         "kinds_at": "(reader, standing)",
     },
     faults: {"possible": "(reader, kind)", "fault_table": "(reader, kind)"},
+    verdicts: {
+        "decide": "(reader, *, copies=False, moves=False)",
+        "is_right": "(reader, *, copies=False, moves=False)",
+    },
+    asking: {"least_asks": "(reader, *, most=4)", "sways": "(reader)"},
+    windows: {"window": "(table, asks, skip, size)", "window_table": "(asks, skip, size)"},
 }
 METHODS = {
     tables.Table: {
@@ -50,17 +56,45 @@ METHODS = {
         "history": "(self)",
         "twin": "(self)",
     },
+    verdicts.Verdict: {"__init__": "(self, reader)", "told": "(self)", "holds": "(self)"},
+    verdicts.Right: {
+        "__init__": "(self, reader, listed, *, copies=False, moves=False)",
+        "told": "(self)",
+        "holds": "(self)",
+    },
+    verdicts.Wrong: {
+        "__init__": "(self, reader, kind, table, *, moves=())",
+        "told": "(self)",
+        "holds": "(self)",
+    },
+    hands.Hand: {
+        "__init__": "(self, table, asks, size, *, inner='up', order='number')",
+        "page": "(self)",
+        "held": "(self)",
+        "left": "(self, part)",
+        "set_size": "(self, value)",
+        "walk": "(self)",
+    },
 }
-STATIC = {tables.Table: ["dealt", "alone"], readers.Reader: ["exact"], runs.Run: []}
+STATIC = {tables.Table: ["dealt", "alone"], readers.Reader: ["exact"]}
 PROPERTIES = {
     tables.Table: ["parts", "plain"],
     readers.Reader: ["mark", "inner", "order", "parts"],
     runs.Run: ["reader", "table", "state", "fault", "ended"],
+    verdicts.Verdict: ["reader"],
+    verdicts.Right: ["listed", "copies", "moves"],
+    verdicts.Wrong: ["kind", "table", "moves"],
+    hands.Hand: ["size"],
 }
+# The properties that can be assigned.
+ASSIGNED = {hands.Hand: ["size"]}
 OPERATORS = {
     tables.Table: ["__or__", "__contains__", "__len__", "__bool__", "__eq__", "__repr__"],
     readers.Reader: ["__len__", "__eq__", "__repr__"],
     runs.Run: ["__call__", "__len__", "__bool__", "__repr__"],
+    verdicts.Verdict: ["__bool__", "__repr__"],
+    verdicts.Right: ["__bool__"],
+    hands.Hand: ["__len__", "__bool__"],
 }
 VALUES = {
     tables.Table: {"MOST_PARTS": 4, "MOST_ROWS": 300},
@@ -76,6 +110,8 @@ HOMES = {
     "partfirsts.tables": [tables.Table],
     "partfirsts.readers": [readers.Reader],
     "partfirsts.runs": [runs.Run],
+    "partfirsts.verdicts": [verdicts.Verdict, verdicts.Right, verdicts.Wrong],
+    "partfirsts.hands": [hands.Hand],
 }
 
 
@@ -83,6 +119,7 @@ class Interface(unittest.TestCase):
     def test_constants(self):
         self.assertEqual(faults.KINDS, ("late", "left", "lost", "twice"))
         self.assertTrue(inspect.isgeneratorfunction(standings.standings))
+        self.assertTrue(inspect.isgeneratorfunction(hands.Hand.walk))
 
     def test_functions_stand_in_their_files(self):
         for module, functions in FUNCTIONS.items():
@@ -101,7 +138,7 @@ class Interface(unittest.TestCase):
             for name, signature in methods.items():
                 self.assertIn(name, vars(kind))
                 self.assertEqual(str(inspect.signature(getattr(kind, name))), signature)
-                self.assertEqual(isinstance(vars(kind)[name], staticmethod), name in STATIC[kind])
+                self.assertEqual(isinstance(vars(kind)[name], staticmethod), name in STATIC.get(kind, []))
 
     def test_operators_stand_in_their_classes(self):
         for kind, names in OPERATORS.items():
@@ -112,6 +149,7 @@ class Interface(unittest.TestCase):
         for kind, names in PROPERTIES.items():
             for name in names:
                 self.assertIsInstance(vars(kind)[name], property)
+                self.assertEqual(vars(kind)[name].fset is not None, name in ASSIGNED.get(kind, []))
         for kind, values in VALUES.items():
             for name, value in values.items():
                 self.assertEqual(vars(kind)[name], value)
