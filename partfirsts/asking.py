@@ -42,12 +42,10 @@ def sways(reader):
         raise WrongReader(kinds[0])
     if reader.parts == 1 or are_alike(reader.inner, reader.order):
         return None
-    if reader.order == "part":
-        return (_tied_table(reader, 2, 0), _tied_table(reader, 2, 1))
     ask = reader.states()[0][1][0]
-    # The part 0 sends all rows but its last one, and the one that it lacks is told ahead of all others.
-    lacking = ask if reader.inner == "up" else 0
-    return (_tied_table(reader, ask + 1, None), _tied_table(reader, ask + 1, lacking))
+    # The row that the part 0 would send first lies in the other part once, and so the part 0 sends its last one, too.
+    apart = 0 if reader.inner == "up" else ask
+    return (_tied_table(reader, ask + 1, None), _tied_table(reader, ask + 1, apart))
 
 
 def _tied_table(reader, many, apart):

@@ -1,7 +1,10 @@
+import ast
 import inspect
+import pathlib
 import unittest
 
-from partfirsts import asking, faults, hands, readers, runs, standings, tables, verdicts, windows, words
+from partfirsts import asking, desk, faults, groups, hands, notation, readers, runs, shelf, standings, tables, verdicts
+from partfirsts import windows, words
 
 FUNCTIONS = {
     words: {"is_name": "(value)", "is_number": "(value, least, most)"},
@@ -19,6 +22,18 @@ FUNCTIONS = {
     },
     asking: {"least_asks": "(reader, *, most=4)", "sways": "(reader)"},
     windows: {"window": "(table, asks, skip, size)", "window_table": "(asks, skip, size)"},
+    groups: {
+        "true_first": "(parts, size, way)",
+        "told_first": "(parts, ask, size, way)",
+        "group_parts": "(many, ask, size, way)",
+    },
+    notation: {
+        "reader_text": "(reader)",
+        "table_text": "(table)",
+        "read_reader": "(text)",
+        "read_table": "(text)",
+        "page_table": "(pages)",
+    },
 }
 METHODS = {
     tables.Table: {
@@ -75,6 +90,26 @@ METHODS = {
         "set_size": "(self, value)",
         "walk": "(self)",
     },
+    shelf.Shelf: {
+        "__init__": "(self, *, limit=8)",
+        "set_limit": "(self, value)",
+        "apply": "(self, *commands)",
+        "undo": "(self)",
+        "redo": "(self)",
+        "history": "(self)",
+        "names": "(self)",
+        "reader_of": "(self, name)",
+        "table_of": "(self, name)",
+        "word": "(self, name)",
+        "kept": "(self)",
+        "twin": "(self)",
+    },
+    desk.Desk: {
+        "__init__": "(self, shelf)",
+        "say": "(self, line)",
+        "__call__": "(self, line)",
+        "log": "(self)",
+    },
 }
 STATIC = {tables.Table: ["dealt", "alone"], readers.Reader: ["exact"]}
 PROPERTIES = {
@@ -85,9 +120,11 @@ PROPERTIES = {
     verdicts.Right: ["listed", "copies", "moves"],
     verdicts.Wrong: ["kind", "table", "moves"],
     hands.Hand: ["size"],
+    shelf.Shelf: ["limit", "busy", "computed"],
+    desk.Desk: ["shelf"],
 }
 # The properties that can be assigned.
-ASSIGNED = {hands.Hand: ["size"]}
+ASSIGNED = {hands.Hand: ["size"], shelf.Shelf: ["limit"]}
 OPERATORS = {
     tables.Table: ["__or__", "__contains__", "__len__", "__bool__", "__eq__", "__repr__"],
     readers.Reader: ["__len__", "__eq__", "__repr__"],
@@ -95,6 +132,8 @@ OPERATORS = {
     verdicts.Verdict: ["__bool__", "__repr__"],
     verdicts.Right: ["__bool__"],
     hands.Hand: ["__len__", "__bool__"],
+    shelf.Shelf: ["__contains__", "__len__", "__bool__", "__eq__", "__repr__"],
+    desk.Desk: ["__call__", "__len__", "__bool__", "__repr__"],
 }
 VALUES = {
     tables.Table: {"MOST_PARTS": 4, "MOST_ROWS": 300},
@@ -105,6 +144,7 @@ VALUES = {
         "MOST_STATES": 6,
         "MOST_ASK": 9,
     },
+    shelf.Shelf: {"MOST": 20},
 }
 HOMES = {
     "partfirsts.tables": [tables.Table],
@@ -112,12 +152,30 @@ HOMES = {
     "partfirsts.runs": [runs.Run],
     "partfirsts.verdicts": [verdicts.Verdict, verdicts.Right, verdicts.Wrong],
     "partfirsts.hands": [hands.Hand],
+    "partfirsts.shelf": [shelf.Shelf],
+    "partfirsts.desk": [desk.Desk],
 }
 
 
+# Each module needs only those above it; orders is no part of the interface, and needs none.
+ORDER = [
+    "errors", "words", "orders", "tables", "readers", "runs", "standings", "faults", "verdicts", "asking", "hands",
+    "windows", "groups", "notation", "shelf", "desk",
+]
+
+
 class Interface(unittest.TestCase):
+    def test_each_module_needs_only_those_above_it(self):
+        folder = pathlib.Path(tables.__file__).parent
+        self.assertEqual(sorted(path.stem for path in folder.glob("*.py")), sorted(["__init__", *ORDER]))
+        for at, name in enumerate(ORDER):
+            for node in ast.walk(ast.parse((folder / f"{name}.py").read_text(encoding="utf-8"))):
+                if isinstance(node, ast.ImportFrom):
+                    self.assertIn(node.module.removeprefix("partfirsts."), ORDER[:at], name)
+
     def test_constants(self):
         self.assertEqual(faults.KINDS, ("late", "left", "lost", "twice"))
+        self.assertEqual(groups.WAYS, ("least", "greatest", "sum"))
         self.assertTrue(inspect.isgeneratorfunction(standings.standings))
         self.assertTrue(inspect.isgeneratorfunction(hands.Hand.walk))
 
